@@ -1,0 +1,1 @@
+"""Tells each answer at the earliest right moment in a net of houses."""
