@@ -31,19 +31,19 @@ def read_dealing(text):
     """Returns the tables, houses, modulus, accepts and exceptions of a dealing's text, or raises BadText."""
     scanner = Scanner(text)
     tables = read_tables(scanner)
-    scanner.word(("houses ",))
+    scanner.take(("houses ",))
     houses = read_number(scanner)
-    scanner.word((", modulus ",))
+    scanner.take((", modulus ",))
     modulus = read_number(scanner)
     accepts = []
     exceptions = []
-    end = scanner.word((ACCEPT, EXCEPTION, "."))
+    end = scanner.take((ACCEPT, EXCEPTION, "."))
     while end == ACCEPT:
         accepts.append(read_accept(scanner))
-        end = scanner.word((ACCEPT, EXCEPTION, "."))
+        end = scanner.take((ACCEPT, EXCEPTION, "."))
     while end == EXCEPTION:
         row = read_row(scanner)
-        scanner.word((" to ",))
+        scanner.take((" to ",))
         group, end = read_summed(scanner, (EXCEPTION, "."))
         exceptions.append((row, group))
     scanner.finish()
@@ -53,12 +53,12 @@ def read_dealing(text):
 def read_accept(scanner):
     """Reads an accept, behind its word."""
     house = read_number(scanner)
-    scanner.word((" ",))
+    scanner.take((" ",))
     table = read_number(scanner)
-    scanner.word(("(",))
+    scanner.take(("(",))
     rests = []
     if scanner.sees(")"):
-        end = scanner.word((")",))
+        end = scanner.take((")",))
     else:
         end = ", "
     while end == ", ":
@@ -70,10 +70,10 @@ def read_accept(scanner):
 def read_summed(scanner, ends):
     """Returns one number or more, with + between them, and which of the ends stands behind them."""
     numbers = [read_number(scanner)]
-    end = scanner.word(("+", *ends))
+    end = scanner.take(("+", *ends))
     while end == "+":
         numbers.append(read_number(scanner))
-        end = scanner.word(("+", *ends))
+        end = scanner.take(("+", *ends))
     return (tuple(numbers), end)
 
 
@@ -90,19 +90,19 @@ def deed_text(deed):
 def read_deed(text):
     """Returns the deed of a deed's text, or raises BadText."""
     scanner = Scanner(text)
-    word = scanner.word(DEED_WORDS).strip()
+    word = scanner.take(DEED_WORDS).strip()
     if word == "put":
         parts = (read_row(scanner),)
     elif word == "seal":
         house = read_number(scanner)
-        scanner.word((" ",))
+        scanner.take((" ",))
         parts = (house, read_pattern(scanner))
     elif word == "send":
         sender = read_number(scanner)
-        scanner.word((" ",))
+        scanner.take((" ",))
         parts = (sender, read_number(scanner))
     else:
         parts = (read_number(scanner),)
-    scanner.word((".",))
+    scanner.take((".",))
     scanner.finish()
     return (word, *parts)

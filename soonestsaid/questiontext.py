@@ -50,16 +50,16 @@ def read_rule(scanner):
     name = read_name(scanner)
     terms = read_terms(scanner)
     conditions = []
-    end = scanner.word((" <- ", "; ", "."))
+    end = scanner.take((" <- ", "; ", "."))
     while end in (" <- ", ", "):
         conditions.append(read_condition(scanner))
-        end = scanner.word((", ", "; ", "."))
+        end = scanner.take((", ", "; ", "."))
     return ((name, terms, tuple(conditions)), end)
 
 
 def read_condition(scanner):
     """Reads a condition."""
-    word = scanner.word(CONDITION_WORDS)
+    word = scanner.take(CONDITION_WORDS)
     if word == "unlike(":
         return read_unlike(scanner)
     if word == "none ":
@@ -71,7 +71,7 @@ def read_condition(scanner):
 def read_unlike(scanner):
     """Reads the two terms of an 'unlike' condition, behind its opening bracket."""
     one = read_term(scanner)
-    scanner.word((", ",))
+    scanner.take((", ",))
     other = read_term(scanner)
-    scanner.word((")",))
+    scanner.take((")",))
     return ("unlike", one, other)

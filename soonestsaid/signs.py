@@ -23,7 +23,7 @@ class Scanner:
         sign = self.text[self.place:self.place + 1]
         return sign != "" and sign in signs
 
-    def word(self, words):
+    def take(self, words):
         """Passes and returns the word that stands here; none of the words is the beginning of another one."""
         most = 0
         for word in words:
@@ -34,7 +34,7 @@ class Scanner:
             most = max(most, many)
         raise BadText(self.place + most)
 
-    def run(self, signs, most):
+    def take_signs(self, signs, most):
         """Passes and returns as many of these signs as stand here, at least one and at most `most`."""
         begin = self.place
         bound = min(begin + most, len(self.text))
@@ -60,12 +60,12 @@ def alike_signs(text, place, word):
 
 def read_number(scanner):
     """Reads a number; no digit belongs to it behind a first 0."""
-    return int(scanner.run(DIGITS, 1 if scanner.sees("0") else MOST_DIGITS))
+    return int(scanner.take_signs(DIGITS, 1 if scanner.sees("0") else MOST_DIGITS))
 
 
 def read_name(scanner):
     """Reads a name."""
-    return scanner.run(LETTERS, MOST_LETTERS)
+    return scanner.take_signs(LETTERS, MOST_LETTERS)
 
 
 def read_term(scanner):
@@ -76,7 +76,7 @@ def read_term(scanner):
 def read_cell(scanner):
     """Reads a star or a number."""
     if scanner.sees("*"):
-        scanner.word(("*",))
+        scanner.take(("*",))
         return STAR
     return read_number(scanner)
 
@@ -84,7 +84,7 @@ def read_cell(scanner):
 def read_chain(scanner, read_one, between, end):
     """Reads one thing or more, with `between` between two of them, and the end behind them."""
     found = [read_one(scanner)]
-    while scanner.word((between, end)) == between:
+    while scanner.take((between, end)) == between:
         found.append(read_one(scanner))
     return tuple(found)
 
@@ -92,34 +92,34 @@ def read_chain(scanner, read_one, between, end):
 def read_list(scanner, read_one, end):
     """Reads the things of a pair of brackets, perhaps none, and the sign that ends them."""
     if scanner.sees(end):
-        scanner.word((end,))
+        scanner.take((end,))
         return ()
     return read_chain(scanner, read_one, ", ", end)
 
 
 def read_terms(scanner):
     """Reads terms in round brackets."""
-    scanner.word(("(",))
+    scanner.take(("(",))
     return read_list(scanner, read_term, ")")
 
 
 def read_row(scanner):
     """Reads a row: a number and worths in round brackets."""
     table = read_number(scanner)
-    scanner.word(("(",))
+    scanner.take(("(",))
     return (table, read_list(scanner, read_number, ")"))
 
 
 def read_pattern(scanner):
     """Reads a pattern: a number and cells in round brackets."""
     table = read_number(scanner)
-    scanner.word(("(",))
+    scanner.take(("(",))
     return (table, read_list(scanner, read_cell, ")"))
 
 
 def read_tables(scanner):
     """Reads the widths of the tables, and the colon behind them."""
-    scanner.word(("tables ",))
+    scanner.take(("tables ",))
     return read_chain(scanner, read_number, ", ", ": ")
 
 

@@ -64,3 +64,46 @@ def unchanged(test, call, *args):
     found = call(*args)
     test.assertEqual(args, before)
     return found
+
+
+NAMES = ("answer", "pair", "far")
+VARIABLES = ("x", "y", "z", "w")
+
+
+def drawn_rules(draw, tables, words=("row", "told", "told", "not", "none", "unlike"), constants=(0, 1), most=5):
+    """Rules that make a question, with conditions of these words."""
+    widths = {name: draw.choice((0, 1, 1, 2, 2, 3)) for name in NAMES}
+    heads = ["answer", *[draw.choice(NAMES) for _ in range(draw.randint(0, most - 1))]]
+    rules = [drawn_rule(draw, tables, words, constants, head, widths, heads) for head in heads]
+    draw.shuffle(rules)
+    return tuple(rules)
+
+
+def drawn_rule(draw, tables, words, constants, name, widths, heads):
+    conditions = []
+    many = draw.choice((1, 1, 2, 3, 5))
+    while len(conditions) < draw.randint(1, many):
+        word = draw.choice([word for word in words if word in ("row", "told")])
+        table = draw.randrange(len(tables))
+        told = draw.choice(heads) if draw.random() < 0.9 else draw.choice(NAMES)
+        if word == "row":
+            conditions.append((word, table, drawn_terms(draw, VARIABLES, constants, tables[table])))
+        else:
+            conditions.append((word, told, drawn_terms(draw, VARIABLES, constants, widths[told])))
+    bound = sorted({term for _, _, terms in conditions for term in terms if isinstance(term, str)})
+    while len(conditions) < many and draw.random() < 0.5:
+        word = draw.choice([word for word in words if word in ("not", "none", "unlike")])
+        table = draw.randrange(len(tables))
+        if word == "not":
+            conditions.append((word, table, drawn_terms(draw, bound, constants, tables[table])))
+        elif word == "none":
+            conditions.append((word, (table, tuple(draw.choice((-1, *constants)) for _ in range(tables[table])))))
+        else:
+            conditions.append((word, *drawn_terms(draw, bound, constants, 2)))
+    draw.shuffle(conditions)
+    return (name, drawn_terms(draw, bound, constants, widths[name]), tuple(conditions))
+
+
+def drawn_terms(draw, variables, constants, many):
+    return tuple(draw.choice(variables) if variables and draw.random() < 0.9 else draw.choice(constants)
+                 for _ in range(many))

@@ -8,7 +8,7 @@ import unittest
 FOLDER = pathlib.Path(__file__).resolve().parent.parent / "soonestsaid"
 BUILTINS = set(
     "len range enumerate zip min max sum abs sorted reversed int str bool list tuple dict set isinstance ord repr any all"
-    " divmod ValueError KeyError ZeroDivisionError".split())
+    " divmod property ValueError KeyError ZeroDivisionError".split())
 METHODS = set(
     "append clear copy count endswith extend find get index insert isalnum isalpha isdigit islower isspace isupper items"
     " join keys ljust lower lstrip partition pop remove replace reverse rfind rjust rpartition rsplit rstrip setdefault"
