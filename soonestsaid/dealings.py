@@ -1,7 +1,7 @@
 """Dealings: which houses are the homes of each possible row."""
 
 from soonestsaid.errors import BadDealing, BadRow, BadTables
-from soonestsaid.patterns import STAR, picks, star_patterns
+from soonestsaid.patterns import STAR, deciding_worths, picks, star_patterns
 from soonestsaid.rows import check_row, check_tables, is_sequence, is_whole, sorted_things, worths_of
 
 MOST_HOUSES = 5
@@ -148,14 +148,7 @@ class Dealing:
 
     def _column(self, table, at):
         """Returns the worths that the table's exceptions have in the column, and of each rest the least other one."""
-        found = [row[1][at] for row, _ in self.exceptions if row[0] == table]
-        others = []
-        for rest in range(self.modulus):
-            worth = rest
-            while worth in found:
-                worth += self.modulus
-            others.append(worth)
-        return sorted_things(found + others)
+        return deciding_worths([row[1][at] for row, _ in self.exceptions if row[0] == table], self.modulus)
 
     def __eq__(self, other):
         return (isinstance(other, Dealing) and self.tables == other.tables and self.houses == other.houses

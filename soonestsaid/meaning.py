@@ -4,7 +4,7 @@ from soonestsaid.fillings import ground
 from soonestsaid.patterns import covers
 from soonestsaid.questions import variables_of
 from soonestsaid.rows import is_sequence, is_whole, plain_rows, sorted_things
-from soonestsaid.telling import Telling, holds_beside
+from soonestsaid.telling import Telling, derivation_among, holds_beside
 
 
 class Given:
@@ -39,20 +39,7 @@ def answers_of(question, rows):
 
 def basis_derivation(question, basis, fact):
     """Returns a right derivation of the fact for a basis, or None if it is not told."""
-    steps = Telling(question, basis).steps
-    if fact not in steps:
-        return None
-    needed = {fact: True}
-    found = []
-    # A step leans on facts that were told ahead of it alone, so one way back meets all that is needed.
-    for head in reversed(list(steps)):
-        if head in needed:
-            number, filling = steps[head]
-            found.append((number, filling))
-            for support in ground(question, number, filling).facts:
-                needed[support] = True
-    found.reverse()
-    return tuple(found)
+    return derivation_among(question, Telling(question, basis).steps, fact)
 
 
 def derivation_of(question, rows, fact):

@@ -77,6 +77,17 @@ def new_worth(known, rest, modulus):
     return least + (rest - least) % modulus
 
 
+def deciding_worths(worths, modulus):
+    """Returns the worths and, of each rest by the modulus, the least other one, ascending."""
+    others = []
+    for rest in range(modulus):
+        other = rest
+        while other in worths:
+            other += modulus
+        others.append(other)
+    return sorted_things([*worths, *others])
+
+
 def typical_rows(pattern, worths, modulus):
     """Returns one row of the pattern for each kind of its rows beside the known worths."""
     table, cells = pattern

@@ -38,29 +38,37 @@ class Telling:
         self.heads = []
         self._store = Store()
         self._begin()
+        self._go_on()
+
+    def _rules(self):
+        """Returns a list of (number, binding): the rules that are asked, and what their variables are bound to."""
+        return [(number, {}) for number in range(len(self.question.rules))]
+
+    def _begin(self):
+        """Lays the rows and tells what needs no facts."""
+        for table, worths in self.basis.rows:
+            self._store.lay(table, worths)
+        for number, bound in self._rules():
+            wanted = wanted_parts(self.question.rules[number])
+            if not [head for head, _ in wanted if isinstance(head, str)]:
+                self._tell(number, joined_with(self._store, wanted, bound))
+
+    def _go_on(self):
+        """Uses each told fact."""
         # Each fact is laid before it is used, so each filling is met when the last of its facts is laid.
         used = 0
         while used < len(self.heads):
             self._use(self.heads[used])
             used += 1
 
-    def _begin(self):
-        """Lays the rows and tells what needs no facts."""
-        for table, worths in self.basis.rows:
-            self._store.lay(table, worths)
-        for number, rule in enumerate(self.question.rules):
-            wanted = wanted_parts(rule)
-            if not [head for head, _ in wanted if isinstance(head, str)]:
-                self._tell(number, joined_with(self._store, wanted, {}))
-
     def _use(self, fact):
         """Lays a new fact and tells what it helps to tell."""
         name, worths = fact
         self._store.lay(name, worths)
-        for number, rule in enumerate(self.question.rules):
-            wanted = wanted_parts(rule)
+        for number, begun in self._rules():
+            wanted = wanted_parts(self.question.rules[number])
             for at, (head, terms) in enumerate(wanted):
-                bound = bound_by(terms, worths, {}) if head == name else None
+                bound = bound_by(terms, worths, begun) if head == name else None
                 if bound is not None:
                     self._tell(number, joined_with(self._store, wanted[:at] + wanted[at + 1:], bound))
 
@@ -75,6 +83,23 @@ class Telling:
                 if holds_beside(self.basis, ground(self.question, number, filling)):
                     self.steps[head] = (number, filling)
                     self.heads.append(head)
+
+
+def derivation_among(question, steps, fact):
+    """Returns those of the steps that a fact needs, in their order, or None if no step tells it."""
+    if fact not in steps:
+        return None
+    needed = {fact: True}
+    found = []
+    # A step leans on facts that were told ahead of it alone, so one way back meets all that is needed.
+    for head in reversed(list(steps)):
+        if head in needed:
+            number, filling = steps[head]
+            found.append((number, filling))
+            for support in ground(question, number, filling).facts:
+                needed[support] = True
+    found.reverse()
+    return tuple(found)
 
 
 def holds_beside(basis, made):

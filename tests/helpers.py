@@ -45,9 +45,20 @@ def is_plain(thing):
     return not isinstance(thing, (list, dict, set))
 
 
+def content(thing):
+    """The thing with dicts of their attributes in the place of objects, to see whether anything in it changed."""
+    if isinstance(thing, (list, tuple)):
+        return type(thing)(content(part) for part in thing)
+    if isinstance(thing, dict):
+        return {key: content(part) for key, part in thing.items()}
+    if hasattr(thing, "__dict__") and not isinstance(thing, type):
+        return thing.__class__.__name__, content(vars(thing))
+    return copy.copy(thing) if isinstance(thing, set) else thing
+
+
 def refuses(test, error, told, call, *args):
     """The call raises exactly this error, with these attributes, and changes nothing that it was passed."""
-    before = copy.deepcopy(args)
+    before, held = content(args), content(owner(call))
     try:
         call(*args)
     except ValueError as found:
@@ -55,14 +66,21 @@ def refuses(test, error, told, call, *args):
         test.assertEqual(found.__dict__, told, args)
     else:
         test.fail(f"{call.__name__}{args} raised nothing")
-    test.assertEqual(args, before)
+    test.assertEqual(content(args), before)
+    test.assertEqual(content(owner(call)), held)
+
+
+def owner(call):
+    """The object whose method is called, if it is one."""
+    return getattr(call, "__self__", None)
 
 
 def unchanged(test, call, *args):
-    """What the call returns; it changes nothing that it was passed."""
-    before = copy.deepcopy(args)
+    """What the call returns; it changes nothing that it was passed, and not the object whose method it is."""
+    before, held = content(args), content(owner(call))
     found = call(*args)
-    test.assertEqual(args, before)
+    test.assertEqual(content(args), before)
+    test.assertEqual(content(owner(call)), held)
     return found
 
 
