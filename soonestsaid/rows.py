@@ -74,6 +74,18 @@ def plain_rows(rows):
     return sorted_things([plain_row(row) for row in rows])
 
 
+def is_plain_row(tables, thing, least=0):
+    """Returns whether thing is a row in plain tuples, or a pattern where cells may be -1, the least."""
+    return fault_of_cells(tables, thing, least) is None and thing == plain_row(thing)
+
+
+def are_plain_rows(tables, things, least=0):
+    """Returns whether things is a tuple of plain rows, or patterns, ascending, each once."""
+    if not isinstance(things, tuple) or not all([is_plain_row(tables, thing, least) for thing in things]):
+        return False
+    return all([low < high for low, high in zip(things, things[1:])])
+
+
 def sorted_things(things):
     """Returns the things ascending, each once."""
     found = []

@@ -3,10 +3,11 @@
 import itertools
 
 from soonestsaid.fillings import ground
-from soonestsaid.meaning import told_facts
+from soonestsaid.meaning import basis_fault, told_facts
 from soonestsaid.patterns import typical_rows
+from soonestsaid.wholes import Whole
 from tests.helpers import drawn_terms
-from tests.worlds import World
+from tests.worlds import World, matches, renamed
 
 
 def first_world(question, dealing, wholes, fact):
@@ -124,3 +125,131 @@ def opposite(draw, rule):
     left = [condition for place, condition in enumerate(conditions) if place != at and (
         condition[0] in ("row", "told") or draw.random() < 0.5)]
     return name, terms, (*left, broken)
+
+
+def is_row_of(tables, thing, least=0):
+    """Whether the thing is a row, or a pattern if the least cell is -1, in plain tuples and whole numbers."""
+    def whole(part):
+        return type(part) is int
+    return (type(thing) is tuple and len(thing) == 2 and whole(thing[0]) and 0 <= thing[0] < len(tables)
+            and type(thing[1]) is tuple and len(thing[1]) == tables[thing[0]]
+            and all(whole(cell) and cell >= least for cell in thing[1]))
+
+
+def hears(view, heard):
+    """Whether the first part of a paper is what the view can have heard before."""
+    if type(heard) is not tuple:
+        return False
+    last = -1
+    for entry in heard:
+        if type(entry) is not tuple or len(entry) != 3:
+            return False
+        house, rows, seals = entry
+        if type(house) is not int or not last < house < view.dealing.houses:
+            return False
+        last = house
+        whole = view.whole_of(house)
+        for things, known, least in ((rows, whole.rows, 0), (seals, whole.seals, -1)):
+            if type(things) is not tuple or not all(is_row_of(view.dealing.tables, thing, least) for thing in things):
+                return False
+            if list(things) != sorted(set(things)) or not set(things) <= set(known):
+                return False
+        if not rows and not seals:
+            return False
+        if any(matches(seal, row) for seal in seals for row in whole.rows if row not in rows):
+            return False
+    return True
+
+
+def own_fault(question, view, fact, paper):
+    """The word and the place of a paper's first fault, or None."""
+    if type(paper) is not tuple or len(paper) != 2 or not hears(view, paper[0]):
+        return "heard", ()
+    wholes = [(house, Whole(rows, seals)) for house, rows, seals in paper[0]]
+    return own_tree_fault(question, first_world(question, view.dealing, wholes, fact), fact, paper[1], ())
+
+
+def own_tree_fault(question, world, fact, tree, place):
+    word = tree[0] if type(tree) is tuple and tree else None
+    if word == "told" and len(tree) == 2:
+        return None if basis_fault(question, world, fact, tree[1]) is None else ("steps", place)
+    if word == "row" and len(tree) == 4:
+        row = tree[1]
+        if not is_row_of(question.tables, row) or not set(row[1]) <= set(world.worths) or world.mark(row) != "open":
+            return "row", place
+        below = [(tree[2], world.beside(lacking=(row,))), (tree[3], world.beside(there=(row,)))]
+    elif word == "none" and len(tree) == 4 and type(tree[3]) is tuple and all(
+            type(case) is tuple and len(case) == 2 for case in tree[3]):
+        pattern = tree[1]
+        if not is_row_of(question.tables, pattern, -1) or not set(pattern[1]) <= {-1, *world.worths}:
+            return "none", place
+        if world.empty(pattern) != "open":
+            return "none", place
+        rows = tuple(row for row, _ in tree[3])
+        if repr(rows) != repr(own_breaking_rows(world, pattern)):
+            return "cases", place
+        below = [(tree[2], world.beside(empties=(pattern,)))]
+        below += [(branch, world.beside(there=(row,))) for row, branch in tree[3]]
+    else:
+        return "shape", place
+    for at, (branch, beside) in enumerate(below):
+        fault = own_tree_fault(question, beside, fact, branch, (*place, at))
+        if fault is not None:
+            return fault
+    return None
+
+
+def own_leaves(tree, place=()):
+    if tree[0] == "told":
+        return (place,)
+    below = tree[2:] if tree[0] == "row" else (tree[2], *(branch for _, branch in tree[3]))
+    return tuple(leaf for at, branch in enumerate(below) for leaf in own_leaves(branch, (*place, at)))
+
+
+def own_walk(question, world, tree, rows, place=(), swaps=()):
+    """The place of the leaf to which an input comes, the leaf's steps, and the exchanges on the way."""
+    if tree[0] == "told":
+        return place, tree[1], swaps
+    if tree[0] == "row":
+        if tree[1] in rows:
+            return own_walk(question, world.beside(there=(tree[1],)), tree[3], rows, (*place, 1), swaps)
+        return own_walk(question, world.beside(lacking=(tree[1],)), tree[2], rows, (*place, 0), swaps)
+    covered = sorted(row for row in rows if matches(tree[1], row))
+    if not covered:
+        return own_walk(question, world.beside(empties=(tree[1],)), tree[2], rows, (*place, 0), swaps)
+    standing = [at for at, (case, _) in enumerate(tree[3]) if stands_for(case, covered[0], world)]
+    assert len(standing) == 1, standing
+    case, branch = tree[3][standing[0]]
+    row = covered[0]
+    for at in range(len(row[1])):
+        one, other = row[1][at], case[1][at]
+        if one != other:
+            swaps = (*swaps, (one, other))
+            rows = renamed(rows, {one: other, other: one})
+            row = renamed([row], {one: other, other: one})[0]
+    assert row == case
+    return own_walk(question, world.beside(there=(case,)), branch, rows, (*place, standing[0] + 1), swaps)
+
+
+def stands_for(case, row, world):
+    places = range(len(row[1]))
+    modulus = world.dealing.modulus
+    for at in places:
+        one, other = case[1][at], row[1][at]
+        if (one in world.worths or other in world.worths) and one != other:
+            return False
+        if one % modulus != other % modulus:
+            return False
+        if one not in world.worths and any(
+                (case[1][at] == case[1][by]) != (row[1][at] == row[1][by]) for by in places
+                if case[1][by] not in world.worths):
+            return False
+    return True
+
+
+def undone(steps, swaps):
+    """The steps with all exchanges undone in their fillings, the last one first."""
+    for one, other in reversed(swaps):
+        names = {one: other, other: one}
+        steps = tuple((number, tuple(names.get(worth, worth) for worth in filling)) for number, filling in steps)
+    return tuple((number, tuple(filling)) for number, filling in steps)
