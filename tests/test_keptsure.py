@@ -81,6 +81,43 @@ class LookTest(unittest.TestCase):
         if (1, (8,)) not in before[("answer", (7,))]:
             self.assertEqual(dict(kept.foils)[("answer", (7,))], before[("answer", (7,))])
 
+    def test_a_foil_stands_again_though_another_would_be_found(self):
+        question = Question((1, 1), [("answer", ("x",), [("row", 0, ("x",)), ("none", (1, (-1,)))])])
+        kept = Kept(question)
+        seven = ("answer", (7,))
+        kept.look(one_view([(0, (7,))]))
+        ((answer, rows),) = kept.foils
+        self.assertEqual(answer, seven)
+        # Each further seal makes a worth known, but leaves the foil let.
+        worth = max(worth for _, worths in rows for worth in worths)
+        seals = [(1, (worth + more,)) for more in (1, 2, 40)]
+        for many in (1, 2, 3):
+            view = one_view([(0, (7,))], seals[:many])
+            self.assertEqual(kept.ask(view, seven), Foil(rows))
+            self.assertEqual(kept.look(view), ())
+            self.assertEqual(kept.foils, ((seven, rows),))
+            self.assertEqual(kept.ask(view, seven), Foil(rows))
+        self.assertNotEqual(find_verdict(question, view, seven), Foil(rows))
+        # When it is let no longer, another one stands there.
+        view = one_view([(0, (7,))], [*seals, (1, (worth,))])
+        self.assertNotEqual(kept.ask(view, seven), Foil(rows))
+        kept.look(view)
+        self.assertIsNone(foil_fault(question, view, *kept.foils[0]))
+
+    def test_foils_are_ascending_whenever_they_were_found(self):
+        question = Question((1, 1, 1), [
+            ("answer", ("x",), [("row", 0, ("x",)), ("not", 1, ("x",))]),
+            ("answer", ("x",), [("row", 0, ("x",)), ("row", 1, ("x",)), ("not", 2, ("x",))]),
+            ("answer", (3,), [("row", 1, (8,)), ("not", 2, (9,))])])
+        kept = Kept(question)
+        rows = [(0, (8,)), (1, (8,))]
+        kept.look(View(one_house((1, 1, 1)), [(0, Whole(rows[:1]))]))
+        before = dict(kept.foils)
+        self.assertEqual(before, {("answer", (8,)): ((0, (8,)), (1, (8,)), (2, (8,)))})
+        kept.look(View(one_house((1, 1, 1)), [(0, Whole(rows))]))
+        self.assertEqual([answer for answer, _ in kept.foils], [("answer", (3,)), ("answer", (8,))])
+        self.assertEqual(dict(kept.foils)[("answer", (8,))], before[("answer", (8,))])
+
     def test_answers_that_go_and_come_back(self):
         question = Question((1, 1), [ALONE, BESIDE])
         kept = Kept(question)

@@ -189,6 +189,23 @@ class LanguageTest(unittest.TestCase):
                     self.assertIn(node.attr, own | assigned | METHODS, (name, node.lineno))
                     self.assertNotIn(node.attr, BARRED_NAMES, (name, node.lineno))
 
+    def test_a_name_is_one_kind_of_thing(self):
+        methods, properties, assigned, defined = set(), set(), set(), []
+        for tree in TREES.values():
+            for node in ast.walk(tree):
+                if isinstance(node, ast.ClassDef):
+                    for part in node.body:
+                        if isinstance(part, ast.FunctionDef):
+                            (properties if part.decorator_list else methods).add(part.name)
+                if isinstance(node, ast.Attribute) and isinstance(node.ctx, ast.Store):
+                    assigned.add(node.attr)
+            defined.extend(functions(tree))
+        self.assertFalse(methods & assigned or properties & assigned or methods & properties)
+        names = [function.name for function in defined]
+        for function in defined:
+            if any(isinstance(node, (ast.Yield, ast.YieldFrom)) for node in ast.walk(function)):
+                self.assertEqual(names.count(function.name), 1, function.name)
+
     def test_strings(self):
         for name, tree in TREES.items():
             for text in strings(tree):
