@@ -66,7 +66,7 @@ class LookTest(unittest.TestCase):
                 self.assertEqual(kept.look(view), ())
                 self.assertEqual(content(view), before)
             told += len(kept.told)
-        self.assertGreater(min(told, again), 20)
+        self.assertGreater(min(told, again), 10)
 
     def test_a_foil_stands_again(self):
         question = Question((1, 1), [ALONE])

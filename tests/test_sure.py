@@ -16,6 +16,7 @@ from tests.worlds import FAR, one_house, played_wholes, small_dealing, small_vie
 ALONE = ("answer", ("x",), (("row", 0, ("x",)), ("not", 1, ("x",))))
 BESIDE = ("answer", ("x",), (("row", 0, ("x",)), ("row", 1, ("x",))))
 NOBODY = ("answer", ("x",), (("row", 0, ("x",)), ("none", (1, (-1,)))))
+FOURTH = ("answer", ("x",), (("row", 0, ("x",)), ("row", 1, (4,))))
 SOMEBODY = ("answer", ("x",), (("row", 0, ("x",)), ("row", 1, ("y",))))
 
 
@@ -164,6 +165,10 @@ class SureAnswersTest(unittest.TestCase):
             tables = draw.choice(((1,), (1, 1), (2, 1)))
             question = Question(tables, shaky_rules(draw, tables, draw.random() < 0.2))
             view = small_view(draw, tables, (0, 1, 2), 8, seals=0.2)
+            if draw.random() < 0.5:
+                # Some of many answers are sure.
+                question = Question((1, 1), draw.choice(([ALONE], [ALONE, NOBODY], [NOBODY, BESIDE], [ALONE, FOURTH])))
+                view = small_view(draw, (1, 1), (0, 1, 2, 3, 4), 16, seals=0.4)
             found = unchanged(self, sure_answers, question, view)
             answers = answers_of(question, view.rows)
             self.assertEqual(found, tuple(fact for fact in answers if is_sure(question, view, fact)))
@@ -171,7 +176,7 @@ class SureAnswersTest(unittest.TestCase):
                 if fact not in answers:
                     self.assertFalse(is_sure(question, view, fact))
             some += found not in ((), answers)
-        self.assertGreater(some, 2)
+        self.assertGreater(some, 4)
 
     def test_what_is_sure_stays_sure(self):
         draw = drawing(155)
@@ -196,7 +201,7 @@ class SureAnswersTest(unittest.TestCase):
     def test_settled_views(self):
         draw = drawing(156)
         told = 0
-        for _ in range(200):
+        for _ in range(400):
             tables = draw.choice(((1, 1), (2, 1), (1,)))
             question = Question(tables, shaky_rules(draw, tables, False, 4))
             view = small_view(draw, tables, (0, 1, 2), 8)

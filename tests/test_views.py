@@ -285,7 +285,7 @@ class OpenTest(unittest.TestCase):
 
     def test_in_seconds(self):
         draw = drawing(110)
-        worths = [draw.randrange(30) for _ in range(4)] + [FAR + at for at in range(8)]
+        worths = [0, 1, 5, 17, *(FAR + at for at in range(8))]
         begin = time.process_time()
         for modulus in (1, 3):
             dealing = Dealing((3,), 5, modulus, [(house, 0, [tuple(range(modulus))] * 3) for house in range(5)],
@@ -299,7 +299,8 @@ class OpenTest(unittest.TestCase):
             other = View(dealing, [(0, Whole([], seals)), (3, Whole([], seals))])
             self.assertNotIn(other.first_open((0, (-1, -1, -1)))[1][0], worths)
             self.assertTrue(other.widens(View(dealing)))
-            self.assertFalse(other.widens(view))
+            for one, two in ((other, view), (view, other)):
+                self.assertIs(one.widens(two), one.settled() is None)
         self.assertLess(time.process_time() - begin, 10)
 
 
