@@ -43,6 +43,19 @@ class House:
         """All answers told so far, ascending."""
         return sorted_things([said.answer for said in self.log])
 
+    def twin(self):
+        """Returns a house that stands where this one does and goes on by itself."""
+        other = House(self.question, self.dealing, self.house)
+        self._lend(other)
+        return other
+
+    def _lend(self, other):
+        """Lets another house of this question and number stand where this one does."""
+        other.view = self.view
+        other.moment = self.moment
+        other.log = self.log
+        other._kept = self._kept.twin()
+
     def _tell(self):
         """Tells the answers that are sure by now, and returns those that were not told before."""
         found = self._kept.look(self.view)

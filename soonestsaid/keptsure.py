@@ -23,6 +23,13 @@ class Kept:
         """The (answer, rows) of the answers of the view's own rows that are not told, ascending."""
         return tuple([(fact, self._foils[fact]) for fact in sorted(self._foils)])
 
+    def twin(self):
+        """Returns equal verdicts, which are kept by themselves from now on."""
+        other = Kept(self.question)
+        other._papers = {fact: self._papers[fact] for fact in self._papers}
+        other._foils = {fact: self._foils[fact] for fact in self._foils}
+        return other
+
     def look(self, view):
         """Tells the answers that are sure by now; returns those that were not told before, with their papers."""
         answers = answers_of(self.question, view.rows)
