@@ -8,7 +8,7 @@ import unittest
 FOLDER = pathlib.Path(__file__).resolve().parent.parent / "soonestsaid"
 BUILTINS = set(
     "len range enumerate zip min max sum abs sorted reversed int str bool list tuple dict set isinstance ord repr any all"
-    " divmod property ValueError KeyError ZeroDivisionError".split())
+    " divmod property iter super ValueError KeyError ZeroDivisionError".split())
 METHODS = set(
     "append clear copy count endswith extend find get index insert isalnum isalpha isdigit islower isspace isupper items"
     " join keys ljust lower lstrip partition pop remove replace reverse rfind rjust rpartition rsplit rstrip setdefault"
@@ -169,6 +169,26 @@ class LanguageTest(unittest.TestCase):
             for node in ast.walk(tree):
                 if isinstance(node, ast.Name) and hasattr(builtins, node.id):
                     self.assertIn(node.id, BUILTINS, (name, node.lineno))
+
+    def test_iter_and_super_stand_where_they_may(self):
+        for name, tree in TREES.items():
+            text = TEXTS[name]
+            called = [node for node in ast.walk(tree) if isinstance(node, ast.Call) and isinstance(node.func, ast.Name)]
+            self.assertEqual(text.count("iter("), text.count("        return iter(self."), name)
+            supers = [node for node in called if node.func.id == "super"]
+            beside = [node for node in ast.walk(tree) if isinstance(node, ast.Call) and isinstance(node.func, ast.Attribute)
+                      and isinstance(node.func.value, ast.Call) and node.func.value in supers]
+            self.assertEqual(len(supers), len(beside), name)
+            for node in beside:
+                self.assertTrue(node.func.attr == "__init__" or not node.func.attr.startswith("_"), (name, node.lineno))
+            for function in functions(tree):
+                inner = [node for node in ast.walk(function) if isinstance(node, (ast.ListComp, ast.DictComp, ast.SetComp))]
+                for comprehension in inner:
+                    self.assertFalse([node for node in ast.walk(comprehension) if node in supers], (name, function.name))
+                if function.name == "__len__":
+                    self.assertRegex(ast.unparse(function.body[-1]), "^return len\\(.*\\)$")
+                if function.name == "__iter__":
+                    self.assertEqual(len(function.body), 1)
 
     def test_methods_and_attributes(self):
         own = set()
