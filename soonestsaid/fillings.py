@@ -26,7 +26,11 @@ class Ground:
 def ground(question, number, filling):
     """Returns the Ground of a rule, each of its variables exchanged for its worth."""
     rule = question.rules[number]
-    bound = dict(zip(variables_of(rule), filling))
+    return grounded(rule, dict(zip(variables_of(rule), filling)))
+
+
+def grounded(rule, bound):
+    """Returns the Ground of a rule all of whose variables are bound."""
     parts = {"row": [], "told": [], "not": [], "none": [], "unlike": []}
     for condition in rule[2]:
         word = condition[0]

@@ -11,8 +11,7 @@ class Hearing:
         self.notes = ()
         self._house = house
         self._play = Course(dealing)
-        houses = range(dealing.houses)
-        self._known = [[Whole() for _ in houses] for _ in houses]
+        self._known = [[Whole()] * dealing.houses for _ in range(dealing.houses)]
         # For each letter the wholes that its sender knew.
         self._carried = []
 

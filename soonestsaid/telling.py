@@ -1,6 +1,6 @@
 """Telling facts from a basis, each by the step that tells it first."""
 
-from soonestsaid.fillings import filled, ground, wanted_parts
+from soonestsaid.fillings import filled, ground, grounded, wanted_parts
 from soonestsaid.joins import Store, bound_by, joined_with
 from soonestsaid.questions import variables_of
 
@@ -37,12 +37,24 @@ class Telling:
         self.steps = {}
         self.heads = []
         self._store = Store()
+        self._variables = [variables_of(rule) for rule in question.rules]
+        self._uses = self._find_uses()
         self._begin()
         self._go_on()
 
     def _rules(self):
         """Returns a list of (number, binding): the rules that are asked, and what their variables are bound to."""
         return [(number, {}) for number in range(len(self.question.rules))]
+
+    def _find_uses(self):
+        """Returns for each name the (number, binding, terms, rest): who wants such facts, and what else it wants."""
+        found = {}
+        for number, begun in self._rules():
+            wanted = wanted_parts(self.question.rules[number])
+            for at, (head, terms) in enumerate(wanted):
+                if isinstance(head, str):
+                    found.setdefault(head, []).append((number, begun, terms, wanted[:at] + wanted[at + 1:]))
+        return found
 
     def _begin(self):
         """Lays the rows and tells what needs no facts."""
@@ -65,24 +77,19 @@ class Telling:
         """Lays a new fact and tells what it helps to tell."""
         name, worths = fact
         self._store.lay(name, worths)
-        for number, begun in self._rules():
-            wanted = wanted_parts(self.question.rules[number])
-            for at, (head, terms) in enumerate(wanted):
-                bound = bound_by(terms, worths, begun) if head == name else None
-                if bound is not None:
-                    self._tell(number, joined_with(self._store, wanted[:at] + wanted[at + 1:], bound))
+        for number, begun, terms, rest in self._uses.get(name, []):
+            bound = bound_by(terms, worths, begun)
+            if bound is not None:
+                self._tell(number, joined_with(self._store, rest, bound))
 
     def _tell(self, number, bindings):
         """Tells the heads of those fillings of a rule that hold; their rows and facts are there."""
         rule = self.question.rules[number]
-        variables = variables_of(rule)
         for bound in bindings:
             head = (rule[0], filled(rule[1], bound))
-            if head not in self.steps:
-                filling = filled(variables, bound)
-                if holds_beside(self.basis, ground(self.question, number, filling)):
-                    self.steps[head] = (number, filling)
-                    self.heads.append(head)
+            if head not in self.steps and holds_beside(self.basis, grounded(rule, bound)):
+                self.steps[head] = (number, filled(self._variables[number], bound))
+                self.heads.append(head)
 
 
 def derivation_among(question, steps, fact):

@@ -2,9 +2,8 @@
 
 from heapq import heappop, heappush
 
-from soonestsaid.fillings import filled, ground
+from soonestsaid.fillings import filled, grounded
 from soonestsaid.joins import bound_by
-from soonestsaid.questions import variables_of
 from soonestsaid.telling import Telling
 
 OPEN_ROW = 1
@@ -48,15 +47,17 @@ class Weighing(Telling):
 
     def _tell(self, number, bindings):
         """Lets the steps wait that the marks' rows allow, until nothing lighter is left."""
-        variables = variables_of(self.question.rules[number])
+        rule = self.question.rules[number]
         for bound in bindings:
-            filling = filled(variables, bound)
-            made = ground(self.question, number, filling)
-            weight = self._weight(made) if made.fits and made.head not in self.steps else None
+            head = (rule[0], filled(rule[1], bound))
+            if head in self.steps:
+                continue
+            made = grounded(rule, bound)
+            weight = self._weight(made) if made.fits else None
             if weight is not None:
                 weight += sum([self._weights[fact] for fact in made.facts])
                 self._pushed += 1
-                heappush(self._waiting, (weight, self._pushed, made.head, number, filling))
+                heappush(self._waiting, (weight, self._pushed, head, number, filled(self._variables[number], bound)))
 
     def _weight(self, made):
         """Returns how heavy the open conditions of a Ground are, or None if one of its conditions is broken."""
