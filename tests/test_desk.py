@@ -389,6 +389,17 @@ class TrialTest(unittest.TestCase):
         self.assertEqual(desk.do_deed(("put", (0, (7,)))), (("a", 0, SEVEN),))
         self.assertEqual(desk.trial_deeds([("need", "a")]), Trial(("rows",), None))
 
+    def test_a_twin_goes_on_by_itself(self):
+        desk = Desk(DEALING, True)
+        for deed in (("ask", "a", [EACH]), ("put", (0, (7,))), ("send", 0, 1)):
+            desk.do_deed(deed)
+        held = content(desk)
+        twin = desk.twin()
+        self.assertEqual(content(twin), held)
+        for deed in (("drop", "a"), ("hand", 0), ("ask", "b", [ALONE]), ("seal", 1, (1, (-1,)))):
+            twin.do_deed(deed)
+        self.assertEqual(content(desk), held)
+
     def test_results(self):
         trial = Trial(((),), 1)
         self.assertEqual((trial.tolds, trial.refused), (((),), 1))

@@ -201,7 +201,8 @@ class FaultTest(unittest.TestCase):
         end = self.ends[0]
         for wrong in (None, [], list(end), end[:2], end + (1,), ([True, None], 1, 3), ((True, None, None), 1, 3), ((True, True), 1, 3),
                       ((None, None), 1, 0), ((True, None), 3, 1), ((True, None), 1, 1), ((True, None), 2, 3), ((True, None), 1, 0),
-                      ((True, None), True, 3), ((True, None), 1, 4), ((True, None), -1, 3), ((1, None), 1, 3), ((True, None), None, 3)):
+                      ((True, None), True, 3), ((True, None), 1, 4), ((True, None), 1, 7),
+                      ((True, None), 5, 3), ((True, None), -1, 3), ((1, None), 1, 3), ((True, None), None, 3)):
             self.assertEqual(self.fault(ends=(wrong,)), ("end", 0), wrong)
             self.assertEqual(self.fault(turns=(), ends=(self.ends[1], end, wrong)), ("end", 2), wrong)
         for wrong in (None, list(self.ends), {}, "ab", 3):

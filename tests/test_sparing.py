@@ -283,6 +283,15 @@ class HouseTest(unittest.TestCase):
         self.assertEqual(house.hear(Letter(1, ((1, Whole([], [(1, (7,))])),), ((0, (3,)),))), (SEVEN,))
         self.assertEqual(house.asks, ((0, (3,)), (1, (7,)), (1, (9,))))
 
+    def test_asks_after_a_seal_of_its_own(self):
+        house = Sparing(NOBODY, one_house((1, 1)), 0)
+        house.put((0, (7,)))
+        house.seal((0, (-1,)))
+        # No row over the known worths can break the answer any more, so a pattern is asked for.
+        self.assertEqual(house.seal((1, (7,))), ())
+        self.assertIn((1, (-1,)), house.asks)
+        self.assertEqual(house.seal((1, (-1,))), (SEVEN,))
+
     def test_letters_have_the_asked_seals_alone(self):
         asked, star = (1, (7,)), (1, (-1,))
         house = Sparing(PAID, DEALING, 1)
