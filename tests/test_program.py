@@ -67,7 +67,7 @@ class EveryDeedTest(unittest.TestCase):
             if at % 3:
                 self.judge_foils(draw, net, counts)
         self.assertEqual(conditions, {"row", "told", "not", "none", "unlike"})
-        self.assertGreater(min(counts.values()), 60, counts)
+        self.assertGreater(min(counts.values()), 30, counts)
 
     def case(self, draw):
         tables = draw.choice(((1,), (1, 1), (1, 1)))
@@ -130,7 +130,7 @@ class EveryDeedTest(unittest.TestCase):
                         reckoning.do(deed)
                 for facts in said:
                     self.assertLessEqual(set(facts), set(answers_of(question, reckoning.rows())))
-        self.assertGreater(told, 30)
+        self.assertGreater(told, 10)
 
 
 class NeedTest(unittest.TestCase):
