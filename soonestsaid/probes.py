@@ -15,7 +15,7 @@ def least_probes(chart, outcome):
     places = range(len(chart.lot))
     # In which places the outcomes of the other truth differ; a lot is the number of an outcome, too.
     unlike = [other ^ outcome for other, truth in enumerate(chart.truths) if truth != chart.truths[outcome]]
-    settling = [all([lot & other != 0 for other in unlike]) for lot in range(1 << len(chart.lot))]
+    settling = [all([chosen & other != 0 for other in unlike]) for chosen in range(1 << len(chart.lot))]
     found = []
     for lot, settled in enumerate(settling):
         probe = tuple([place for place in places if is_there(lot, place)])
